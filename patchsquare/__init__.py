@@ -1,0 +1,1 @@
+"""Patchsquare: a text as a square of dark and light cells."""
