@@ -46,6 +46,6 @@ def filled_grains(grains, room):
 def read_grains(grains):
     pieces = read_pieces(bits_of_grains(grains))[0]
     text = "".join([signs for kind, signs in pieces])
-    if text_grains(text, len(grains)) != grains:
+    if text_grains(text, len(grains)) != list(grains):
         raise NoText("the text that stands here is written in another way")
     return text

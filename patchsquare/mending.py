@@ -15,7 +15,7 @@ def mended_row(grains, missing, count):
     if len(missing) > count:
         raise NoMend(0)
     worths = [worth_at(grains, nought) for nought in code_noughts(count)]
-    suspects = missing + suspect_places(worths, missing, len(grains))
+    suspects = list(missing) + suspect_places(worths, missing, len(grains))
     mended = changed_row(grains, suspects, worths)
     wrong = [place for place in range(len(grains)) if place not in missing and mended[place] != grains[place]]
     # Where too much is off, the suspects are not the right ones, which shows only in what comes of them.
