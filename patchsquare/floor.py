@@ -5,9 +5,9 @@ LIGHT = 0
 
 MARK_SIDE = 5
 # A mark's cells from its border inwards: around, within, the middle.
-UPPER_LEFT = (DARK, LIGHT, DARK)
-UPPER_RIGHT = (DARK, DARK, LIGHT)
-LOWER = (LIGHT, DARK, LIGHT)
+UPPER_LEFT = (1, 0, 1)
+UPPER_RIGHT = (1, 1, 0)
+LOWER = (0, 1, 0)
 
 # The label lies in the row and in the column of this number, half of it in each.
 LABEL_LINE = 5

@@ -60,10 +60,11 @@ def shortest_rule(numbers):
     return rule
 
 
+# A rule that was made by the numbers ahead of a place never reaches further back than to the first of them.
 def gap_of_rule(rule, numbers, place):
     gap = 0
-    for back in range(min(len(rule), place + 1)):
-        gap = gap ^ times_of(rule[back], numbers[place - back])
+    for back, factor in enumerate(rule):
+        gap = gap ^ times_of(factor, numbers[place - back])
     return gap
 
 
@@ -72,9 +73,7 @@ def scaled_row(row, factor):
 
 
 def added_rows(first, second):
-    added = [0] * max(len(first), len(second))
-    for place, grain in enumerate(first):
-        added[place] = added[place] ^ grain
+    added = first + [0] * (len(second) - len(first))
     for place, grain in enumerate(second):
         added[place] = added[place] ^ grain
     return added

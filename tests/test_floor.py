@@ -164,7 +164,8 @@ class TestDataPlaces(unittest.TestCase):
 
     def test_as_drawn(self):
         for size, rows in DRAWINGS.items():
-            drawn = [(row, column) for row, signs in enumerate(rows) for column, sign in enumerate(signs) if sign == " "]
+            drawn = [(row, column) for row, signs in enumerate(rows)
+                     for column, sign in enumerate(signs) if sign == " "]
             self.assertEqual(sorted(data_places(size)), drawn)
 
 

@@ -10,8 +10,8 @@ CAPITALS = " ABCDEFGHIJKLMNOPQRSTUVWXYZ.,-:/"
 ANY = "".join(chr(code) for code in range(ord(" "), ord("~") + 1) if code != ord("%"))
 
 # Texts of each kind and of several; their grains fill up with 0 to 5 bits.
-TEXTS = ["", "7", "12", "123", "1234", "12345", "0000000", "K", " ", "KQ", "A/B", "WORD", "QUITE: A ROW.", "a", "ab", "a~b",
-         "quite", "a123", "HELLO, WORLD: 2026", "abc1234567KKKKKK", "5" * 64, "5" * 65, "Q" * 65, "q" * 65,
+TEXTS = ["", "7", "12", "123", "1234", "12345", "0000000", "K", " ", "KQ", "A/B", "WORD", "QUITE: A ROW.", "a", "ab",
+         "a~b", "quite", "a123", "HELLO, WORLD: 2026", "abc1234567KKKKKK", "5" * 64, "5" * 65, "Q" * 65, "q" * 65,
          "7" * 200, "K" * 150, "z" * 100, ANY, "Room 12, LEVEL 3: 2026-11-16 (second)"]
 
 

@@ -53,7 +53,8 @@ class TestReportOn(unittest.TestCase):
             .###.#.#.#.###.###.
             .....##.###.#......
             """.split())
-        self.assertEqual(report_on(picture), "text HELLO 2026\nsize 19 level 1 mask 1 turn 0\nmarks 0\nlabel 0 0\nblock 0 0")
+        self.assertEqual(report_on(picture),
+                         "text HELLO 2026\nsize 19 level 1 mask 1 turn 0\nmarks 0\nlabel 0 0\nblock 0 0")
 
     def test_one_block(self):
         square = written_at("a b  ", 19, 2, 6)

@@ -1,33 +1,13 @@
 import unittest
 from random import Random
 
+from patchsquare.blocks import block_shapes
 from patchsquare.checks import checks_for, is_code
 from patchsquare.errors import NoMend
 from patchsquare.wrapping import unwrapped_grains, wrapped_grains
 
 # By size and level: (data, checks) of each block.
-SHAPES = {
-    (15, 0): [(12, 4)],
-    (15, 1): [(10, 6)],
-    (15, 2): [(8, 8)],
-    (15, 3): [(6, 10)],
-    (19, 0): [(31, 6)],
-    (19, 1): [(27, 10)],
-    (19, 2): [(23, 14)],
-    (19, 3): [(17, 20)],
-    (23, 0): [(26, 6), (26, 6)],
-    (23, 1): [(22, 10), (22, 10)],
-    (23, 2): [(18, 14), (18, 14)],
-    (23, 3): [(14, 18), (14, 18)],
-    (27, 0): [(40, 8), (40, 8)],
-    (27, 1): [(34, 14), (34, 14)],
-    (27, 2): [(28, 20), (28, 20)],
-    (27, 3): [(22, 26), (22, 26)],
-    (31, 0): [(38, 6), (38, 6), (39, 6)],
-    (31, 1): [(32, 12), (32, 12), (33, 12)],
-    (31, 2): [(26, 18), (26, 18), (27, 18)],
-    (31, 3): [(20, 24), (20, 24), (21, 24)],
-}
+SHAPES = {(size, level): block_shapes(size, level) for size in (15, 19, 23, 27, 31) for level in range(4)}
 
 
 # Where the grains of each block stand among all grains: block by turns, and the odd one at the end is the last's.

@@ -235,7 +235,7 @@ class TestWrittenSquare(unittest.TestCase):
 
     def test_a_strange_sign_goes_ahead_of_the_length(self):
         for level in range(4):
-            for text, place in (("\t", 0), ("abc\n\t", 3), ("z" * 299 + "\n", 299), ("Q" * 150 + "\n" + "a" * 149, 150)):
+            for text, place in (("\t", 0), ("abc\n\t", 3), ("z" * 299 + "\n", 299), ("Q" * 150 + "\na", 150)):
                 with self.assertRaises(NoSign) as taken:
                     written_square(text, level)
                 self.assertEqual(taken.exception.place, place)
